@@ -1,0 +1,1 @@
+"""Longernearer: short and long jumps between bytes that nobody knows."""

@@ -1,0 +1,43 @@
+"""What the tests share: calls that are looked at from all sides, and values of all kinds."""
+
+import inspect
+import unittest
+
+from longernearer.errors import BadLog, Loose, Unfit
+
+HUGE = 10 ** 399
+
+# None of these is a tuple.
+NO_TUPLES = (
+    None, True, False, 0, 1, 3, -1, HUGE, -HUGE, "", "form", "abc", "label", "a\nb",
+    [], [("label",)], ["label"], {}, {"label": 1}, {0: ("label",)}, {("label",): None},
+    Unfit(), Loose((1, 2, 0)), BadLog(0),
+)
+
+# None of these is an integer; some are equal to one.
+NO_INTEGERS = (None, True, False, "", "0", "1", "4", (), (1,), [], [1], {}, {1: 1}, Unfit())
+
+
+def nested(value, depth):
+    """Return value in so many tuples, lists and dicts."""
+    for level in range(depth):
+        value = ((value,), [value], {"in": value})[level % 3]
+    return value
+
+
+def exact(value):
+    """Return a text that differs for unlike values, also for True and 1."""
+    return repr(value)
+
+
+class TellingCase(unittest.TestCase):
+    """Test cases for functions that change nothing and tell the same each time."""
+
+    def assert_tells(self, function, expected, **arguments):
+        """Look at a call by place and by name, twice each; arguments stand in their order."""
+        self.assertEqual(list(inspect.signature(function).parameters), list(arguments))
+        before = exact(arguments)
+        for _ in range(2):
+            self.assertEqual(exact(function(*arguments.values())), exact(expected), before)
+            self.assertEqual(exact(function(**arguments)), exact(expected), before)
+        self.assertEqual(exact(arguments), before)

@@ -1,0 +1,37 @@
+"""The interface: which names stand in which file, and with which arguments."""
+
+import importlib
+import inspect
+import unittest
+
+FUNCTIONS = {
+    "skeletons": {"skeleton_error": ["value"], "jumps_of": ["skeleton"]},
+    "programs": {
+        "lengths_error": ["skeleton", "value"],
+        "reaches_error": ["skeleton", "value"],
+        "program_error": ["value"],
+        "choice_error": ["skeleton", "value"],
+    },
+}
+
+BOUNDS = {"MAX_ITEMS": 24, "MAX_JUMPS": 8, "MAX_SIZE": 999, "MAX_LENGTH": 1000000000, "MAX_EDITS": 40}
+
+
+class InterfaceTest(unittest.TestCase):
+
+    def test_functions_are_defined_in_their_files(self):
+        for module_name, functions in FUNCTIONS.items():
+            module = importlib.import_module("longernearer." + module_name)
+            for name, parameters in functions.items():
+                with self.subTest(name):
+                    function = getattr(module, name)
+                    self.assertTrue(inspect.isfunction(function))
+                    self.assertEqual(function.__module__, module.__name__)
+                    self.assertEqual(list(inspect.signature(function).parameters), parameters)
+
+    def test_bounds(self):
+        bounds = importlib.import_module("longernearer.bounds")
+        for name, number in BOUNDS.items():
+            with self.subTest(name):
+                self.assertIs(type(getattr(bounds, name)), int)
+                self.assertEqual(getattr(bounds, name), number)
