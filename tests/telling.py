@@ -41,3 +41,14 @@ class TellingCase(unittest.TestCase):
             self.assertEqual(exact(function(*arguments.values())), exact(expected), before)
             self.assertEqual(exact(function(**arguments)), exact(expected), before)
         self.assertEqual(exact(arguments), before)
+
+    def assert_refuses(self, function, error, fields, **arguments):
+        """Look at a call that raises an error of just this class with these fields, as assert_tells does."""
+        self.assertEqual(list(inspect.signature(function).parameters), list(arguments))
+        before = exact(arguments)
+        for call in (lambda: function(*arguments.values()), lambda: function(**arguments)) * 2:
+            with self.assertRaises(error, msg=before) as caught:
+                call()
+            self.assertIs(type(caught.exception), error)
+            self.assertEqual(exact(vars(caught.exception)), exact(fields))
+        self.assertEqual(exact(arguments), before)

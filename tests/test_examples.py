@@ -1,7 +1,12 @@
-"""The examples of DOC.md, as they are written there; names stay set from one to the next."""
+"""The examples of DOC.md, as they are written there, and of README.md; names stay set from one to the next."""
 
 import doctest
+import pathlib
 import unittest
+
+from longernearer.errors import LayError
+
+README = pathlib.Path(__file__).resolve().parent.parent / "README.md"
 
 EXAMPLES = {
     "A5": r'''
@@ -28,20 +33,104 @@ EXAMPLES = {
     >>> [choice_error(turn, value) for value in ((), (0,), (0, 1), [0], (0, 2), (1, 0), (1, 1), (True,), 0)]
     [None, None, None, 'form', ('jump', 1), ('order', 1), ('order', 1), ('jump', 0), 'form']
 ''',
+    "A8": r'''
+    >>> from longernearer.texts import program_text, read_program, read_skeleton, skeleton_text
+    >>> skeleton_text(turn), program_text(code) == "4/1/2 3/1/3 |4 : :\n0 0 1 0 0 0\n9 7", program_text(((("label",),), (3, 0), ()))
+    ('4/1/2 3/1/3 |4 : :', True, ':\n3 0\n')
+    >>> read_skeleton(": 0/12/99 |64"), read_skeleton(":"), read_program(program_text(code)) == code, read_program(":\n3 0\n")
+    ((('label',), ('jump', 0, 12, 99), ('fill', 64)), (('label',),), True, ((('label',),), (3, 0), ()))
+    >>> read_skeleton(": 0/2/2")
+    raises BadText()
+    >>> read_skeleton(":  |4")
+    raises BadText()
+    >>> read_skeleton("|04")
+    raises BadText()
+    >>> read_program(":\n3 0")
+    raises BadText()
+''',
+    "B2": r'''
+    >>> from longernearer.laying import ahead_of_way, in_way, laid, serves, stuck, total, way_of
+    >>> loop, bytes_between = (("label",), ("jump", 3, 2, 5), ("fill", 8), ("label",), ("jump", 0, 2, 5)), (3, 4, 1, 0, 6, 2)
+    >>> laid(loop, bytes_between, ()), total(loop, bytes_between, ())
+    (((3, 3), (7, 9), (10, 16), (16, 16), (22, 24)), 26)
+    >>> laid(loop, bytes_between, (1,)), total(loop, bytes_between, (1,)), total(loop, bytes_between, (4,))
+    (((3, 3), (7, 12), (13, 16), (16, 16), (22, 24)), 26, 29)
+''',
+    "B3": r'''
+    >>> in_way(loop, 1), in_way(loop, 4), ahead_of_way(loop, 1), ahead_of_way(loop, 4)
+    ((2,), (1, 2, 3), (0,), ())
+    >>> [way_of(loop, bytes_between, choice, 1) for choice in ((), (1,), (4,))], [way_of(loop, bytes_between, choice, 4) for choice in ((), (1,), (1, 4))]
+    ([7, 7, 7], [21, 21, 21])
+    >>> side = (("jump", 1, 2, 5), ("label",), ("jump", 4, 2, 3), ("fill", 4), ("label",))
+    >>> in_way(side, 2), ahead_of_way(side, 2), ahead_of_way(side, 0)
+    ((3,), (0, 1), ())
+    >>> [(way_of(side, (0, 1, between, 0, 0, 0), (), 2), way_of(side, (0, 1, between, 0, 0, 0), (0,), 2)) for between in (0, 1, 2, 3)]
+    [(3, 0), (2, 3), (1, 2), (0, 1)]
+''',
+    "B4": r'''
+    >>> [stuck((loop, bytes_between, reaches), ()) for reaches in ((7, 21), (6, 21), (6, 20), (0, 0))], stuck((loop, bytes_between, (6, 20)), (4,))
+    ([(), (1,), (1, 4), (1, 4)], (1,))
+    >>> small = (side, (0, 1, 0, 0, 0, 0), (0, 2))
+    >>> [serves(small, choice) for choice in ((), (0,), (2,), (0, 2))], stuck(small, ()), stuck(small, (2,))
+    ([False, True, False, True], (0, 2), (0,))
+''',
+    "C2": r'''
+    >>> from longernearer.growing import grown, growing_ends, row_holds
+    >>> side = (("jump", 1, 2, 5), ("label",), ("jump", 4, 2, 3), ("fill", 4), ("label",))
+    >>> small = (side, (0, 1, 0, 0, 0, 0), (0, 2))
+    >>> grown(small, (0, 2)), grown(small, (2, 0)), growing_ends(small), growing_ends((side, (0, 1, 0, 0, 0, 0), (1, 3)))
+    ((0,), (2, 0), ((0,), (0, 2)), ((),))
+    >>> [row_holds(small, value) for value in ((0,), (2, 0), (0, 2), (2,), (), [0], (0, 0), (False,), None)]
+    [True, True, False, False, False, False, False, False, False]
+    >>> chain = (("jump", 2, 1, 3), ("jump", 3, 1, 4), ("label",), ("label",))
+    >>> steps = (chain, (0, 0, 5, 4, 0), (6, 9))
+    >>> grown(steps, (0, 1)), grown(steps, (1, 0)), growing_ends(steps), growing_ends((chain, (0, 0, 5, 4, 0), (6, 8))), grown((chain, (0, 0, 5, 4, 0), (6, 8)), (0, 1))
+    ((), (), ((),), ((0, 1),), (1, 0))
+''',
+    "C3": r'''
+    >>> from longernearer.shrinking import shrink_holds, shrinking_ends, shrunk
+    >>> shrunk(small, (0, 2)), shrinking_ends(small), shrunk(steps, (0, 1)), shrunk(steps, (1, 0)), shrinking_ends(steps)
+    ((2,), ((0,),), (1, 0), (1, 0), ((),))
+    >>> tied = (("label",), ("jump", 3, 2, 4), ("jump", 0, 2, 4), ("label",))
+    >>> crossing = (tied, (0, 0, 0, 0, 0), (2, 4))
+    >>> grown(crossing, (1, 2)), growing_ends(crossing), shrunk(crossing, (1, 2)), shrinking_ends(crossing)
+    ((), ((),), (), ((1, 2),))
+    >>> shrinking_ends((tied, (0, 0, 0, 0, 0), (4, 4))), shrinking_ends((tied, (0, 0, 0, 0, 0), (4, 6)))
+    (((),), ((),))
+    >>> [shrink_holds(small, value) for value in ((2,), (0,), (), (2, 0), [2], None)], shrink_holds(crossing, ()), shrink_holds(steps, (0, 1))
+    ([True, False, False, False, False, False], True, False)
+''',
 }
+
+
+def told(source, names):
+    """Return what a prompt would show of source, and "raises .." with the error's fields if it raises."""
+    try:
+        code = compile(source, "example", "eval")
+    except SyntaxError:
+        exec(source, names)
+        return ""
+    try:
+        value = eval(code, names)
+        return "" if value is None else repr(value) + "\n"
+    except LayError as error:
+        fields = ", ".join(map(repr, vars(error).values()))
+        return f"raises {type(error).__name__}({fields})\n"
 
 
 class ExamplesTest(unittest.TestCase):
 
-    def test_examples(self):
+    def assert_examples(self, text, names):
+        examples = doctest.DocTestParser().get_examples(text)
+        self.assertEqual(len(examples), text.count(">>> "))
+        for example in examples:
+            with self.subTest(example.source):
+                self.assertEqual(told(example.source, names), example.want)
+
+    def test_document(self):
         names = {}
-        for point, text in EXAMPLES.items():
-            with self.subTest(point):
-                told = []
-                examples = doctest.DocTestParser().get_doctest(text, names, point, None, None)
-                runner = doctest.DocTestRunner()
-                results = runner.run(examples, out=told.append, clear_globs=False)
-                # The parser copies the names that it is given.
-                names.update(examples.globs)
-                self.assertEqual(results.failed, 0, "".join(told))
-                self.assertEqual(results.attempted, text.count(">>> "))
+        for text in EXAMPLES.values():
+            self.assert_examples(text, names)
+
+    def test_readme(self):
+        self.assert_examples(README.read_text(encoding="utf-8"), {})

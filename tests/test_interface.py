@@ -12,6 +12,31 @@ FUNCTIONS = {
         "program_error": ["value"],
         "choice_error": ["skeleton", "value"],
     },
+    "texts": {
+        "skeleton_text": ["skeleton"],
+        "read_skeleton": ["value"],
+        "program_text": ["program"],
+        "read_program": ["value"],
+    },
+    "laying": {
+        "laid": ["skeleton", "lengths", "choice"],
+        "total": ["skeleton", "lengths", "choice"],
+        "in_way": ["skeleton", "jump"],
+        "ahead_of_way": ["skeleton", "jump"],
+        "way_of": ["skeleton", "lengths", "choice", "jump"],
+        "serves": ["program", "choice"],
+        "stuck": ["program", "choice"],
+    },
+    "growing": {
+        "grown": ["program", "order"],
+        "row_holds": ["program", "value"],
+        "growing_ends": ["program"],
+    },
+    "shrinking": {
+        "shrunk": ["program", "order"],
+        "shrink_holds": ["program", "value"],
+        "shrinking_ends": ["program"],
+    },
 }
 
 BOUNDS = {"MAX_ITEMS": 24, "MAX_JUMPS": 8, "MAX_SIZE": 999, "MAX_LENGTH": 1000000000, "MAX_EDITS": 40}
