@@ -9,7 +9,7 @@ def laid(skeleton, lengths, choice):
     end = 0
     for place, item in enumerate(skeleton):
         begin = end + lengths[place]
-        end = begin + _own_bytes(item, begin, place in choice)
+        end = begin + own_bytes(item, begin, place in choice)
         spots.append((begin, end))
     return tuple(spots)
 
@@ -54,7 +54,7 @@ def stuck(program, choice):
     return tuple(found)
 
 
-def _own_bytes(item, begin, is_long):
+def own_bytes(item, begin, is_long):
     """Return how many bytes an item takes that begins there."""
     if item[0] == "label":
         return 0

@@ -47,6 +47,12 @@ def choice_error(skeleton, value):
     return None
 
 
+def is_program_with(skeleton, value):
+    """Tell whether value, any value, is a program with this skeleton."""
+    # True is equal to 1, so what is no program is not compared.
+    return program_error(value) is None and value[0] == skeleton
+
+
 def _row_error(value, many, word):
     """Return None if value are so many integers up to MAX_LENGTH, otherwise what is wrong first."""
     if not isinstance(value, tuple) or len(value) != many:

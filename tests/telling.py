@@ -33,22 +33,33 @@ def exact(value):
 class TellingCase(unittest.TestCase):
     """Test cases for functions that change nothing and tell the same each time."""
 
-    def assert_tells(self, function, expected, **arguments):
-        """Look at a call by place and by name, twice each; arguments stand in their order."""
+    def told(self, function, **arguments):
+        """Return what a call returns that is looked at by place and by name, twice each; arguments stand in their order."""
         self.assertEqual(list(inspect.signature(function).parameters), list(arguments))
         before = exact(arguments)
-        for _ in range(2):
-            self.assertEqual(exact(function(*arguments.values())), exact(expected), before)
-            self.assertEqual(exact(function(**arguments)), exact(expected), before)
+        value = function(*arguments.values())
+        for call in (lambda: function(**arguments), lambda: function(*arguments.values())) * 2:
+            self.assertEqual(exact(call()), exact(value), before)
         self.assertEqual(exact(arguments), before)
+        return value
 
-    def assert_refuses(self, function, error, fields, **arguments):
-        """Look at a call that raises an error of just this class with these fields, as assert_tells does."""
+    def assert_tells(self, function, expected, **arguments):
+        """Look at a call that tells just this, as told does."""
+        self.assertEqual(exact(self.told(function, **arguments)), exact(expected), exact(arguments))
+
+    def refused(self, function, error, **arguments):
+        """Return the fields of the error of just this class that a call raises, looked at as told does."""
         self.assertEqual(list(inspect.signature(function).parameters), list(arguments))
-        before = exact(arguments)
+        before, fields = exact(arguments), []
         for call in (lambda: function(*arguments.values()), lambda: function(**arguments)) * 2:
             with self.assertRaises(error, msg=before) as caught:
                 call()
             self.assertIs(type(caught.exception), error)
-            self.assertEqual(exact(vars(caught.exception)), exact(fields))
+            fields.append(vars(caught.exception))
+            self.assertEqual(exact(fields[-1]), exact(fields[0]))
         self.assertEqual(exact(arguments), before)
+        return fields[0]
+
+    def assert_refuses(self, function, error, fields, **arguments):
+        """Look at a call that raises an error of just this class with these fields, as told does."""
+        self.assertEqual(exact(self.refused(function, error, **arguments)), exact(fields), exact(arguments))

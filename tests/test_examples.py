@@ -100,6 +100,81 @@ EXAMPLES = {
     >>> [shrink_holds(small, value) for value in ((2,), (0,), (), (2, 0), [2], None)], shrink_holds(crossing, ()), shrink_holds(steps, (0, 1))
     ([True, False, False, False, False, False], True, False)
 ''',
+    "D2": r'''
+    >>> from longernearer.steadiness import loose_holds, loose_program, steady_error, triples
+    >>> sway = (("jump", 3, 2, 5), ("jump", 3, 2, 4), ("fill", 4), ("label",))
+    >>> calm = (("jump", 3, 2, 6),) + sway[1:]
+    >>> triples(sway), steady_error(sway), triples(calm), steady_error(calm)
+    (((1, 2, 0),), (1, 2, 0), (), None)
+    >>> level = (("jump", 4, 2, 5), ("fill", 4), ("jump", 4, 2, 4), ("fill", 4), ("label",))
+    >>> triples(level), triples(level[:1] + (("fill", 2),) + level[2:]), triples((("jump", 4, 1, 4), ("jump", 4, 1, 2), ("fill", 2), ("fill", 8), ("label",)))
+    ((), ((2, 3, 0),), ((1, 2, 0), (1, 3, 0)))
+    >>> triples((("jump", 1, 1, 2), ("label",), ("fill", 2), ("jump", 1, 2, 4))), triples((("jump", 2, 1, 2), ("fill", 8), ("label",), ("fill", 2), ("jump", 2, 2, 4)))
+    (((3, 2, 0),), ())
+''',
+    "D3": r'''
+    >>> shown = (sway, (0, 0, 1, 0, 0), (99, 3))
+    >>> [loose_holds(sway, value) for value in ((shown, (0,), (1,)), (shown, (1,), (0,)), (shown, (0,), (0, 1)), ((sway, (0, 0, 1, 0, 0), (99, 4)), (0,), (1,)), [shown, (0,), (1,)], None)]
+    [True, True, False, False, False, False]
+    >>> loose_holds(sway, loose_program(sway)), loose_holds(calm, (shown, (0,), (1,)))
+    (True, False)
+    >>> loose_program(calm)
+    raises Steady()
+''',
+    "D4": r'''
+    >>> from longernearer.parting import parted, parted_holds
+    >>> split = (sway, (0, 0, 1, 0, 0), (5, 3))
+    >>> [parted_holds(sway, value) for value in ((split, (0,), (1, 0)), (split, (1, 0), (0,)), (split, (0,), (0,)), (split, (0, 1), (1, 0)), (split, (0,), (1,)), (shown, (0,), (1, 0)), None)]
+    [True, True, False, False, False, False, False]
+    >>> parted_holds(sway, parted(sway))
+    True
+    >>> parted(level)
+    raises Steady()
+''',
+    "E2": r'''
+    >>> from longernearer.tying import tied_pairs, tight_holds, tight_program
+    >>> knot = (("label",), ("jump", 3, 2, 5), ("jump", 0, 2, 5), ("label",))
+    >>> tied_pairs(knot), tied_pairs((("jump", 3, 2, 5), ("jump", 2, 2, 5), ("label",), ("label",))), tied_pairs((("label",), ("jump", 2, 2, 5), ("label",), ("jump", 0, 2, 4)))
+    (((1, 2),), (), ())
+    >>> tied_pairs((("label",), ("jump", 4, 1, 2), ("jump", 4, 1, 3), ("jump", 0, 1, 4), ("label",), ("jump", 0, 1, 2)))
+    ((1, 3), (2, 3))
+''',
+    "E3": r'''
+    >>> held = (knot, (0, 0, 0, 0, 0), (2, 4))
+    >>> [tight_holds(knot, value) for value in ((held, (1, 2)), (held, ()), (held, (1,)), ((knot, (0, 0, 0, 0, 0), (2, 3)), (1, 2)), ((knot, (0, 0, 0, 0, 0), (2, 7)), (1, 2)), [held, (1, 2)], None)]
+    [True, False, False, False, False, False, False]
+    >>> tight_holds(knot, tight_program(knot))
+    True
+    >>> tight_program((("jump", 3, 2, 5), ("jump", 2, 2, 5), ("label",), ("label",)))
+    raises Untied()
+    >>> tight_program((("jump", 3, 2, 5), ("jump", 3, 2, 4), ("fill", 4), ("label",)))
+    raises Loose((1, 2, 0))
+''',
+    "G2": r'''
+    >>> from longernearer.choosing import fewest_bytes, least_choice, least_holds, serving
+    >>> near = (("jump", 1, 2, 5), ("label",), ("jump", 4, 2, 5), ("fill", 4), ("label",))
+    >>> calm = (("jump", 1, 2, 6), ("label",), ("jump", 4, 2, 6), ("fill", 4), ("label",))
+    >>> lengths = (0, 0, 0, 1, 0, 0)
+    >>> [serving((near, lengths, reaches)) for reaches in ((0, 3), (0, 4))], serving((calm, lengths, (0, 3))), serving(((("label",),), (7, 7), ()))
+    ([((0,), (0, 2), (2,)), ((), (0,), (0, 2), (2,))], ((0, 2), (2,)), ((),))
+''',
+    "G3": r'''
+    >>> least_choice((calm, lengths, (0, 3))), least_choice((near, lengths, (0, 4))), least_choice(((("label",),), (7, 7), ()))
+    ((2,), (), ())
+    >>> ring = (("jump", 3, 2, 5), ("label",), ("jump", 1, 2, 5), ("label",))
+    >>> [least_choice((ring, (0,) * 5, reaches)) for reaches in ((2, 2), (1, 2), (2, 1))]
+    [(), (0,), (0, 2)]
+    >>> [least_holds((near, lengths, (0, 3)), value) for value in (((0,), (2,)), ((2,), (0,)), ((0,), (0, 2)), ((), (2,)), [(0,), (2,)], ((0,), (2,), ()), ((False,), (2,)), None)]
+    [True, True, False, False, False, False, False, False]
+    >>> three = (("jump", 4, 1, 4), ("jump", 4, 1, 2), ("fill", 2), ("jump", 5, 1, 4), ("label",), ("label",))
+    >>> wide = (three, (3, 2, 0, 0, 0, 1, 0), (8, 4, 4))
+    >>> serving(wide), least_choice(wide), least_holds(wide, ((0, 3), (1, 3)))
+    (((), (0,), (0, 1), (0, 1, 3), (0, 3), (1,), (1, 3)), (), False)
+''',
+    "G4": r'''
+    >>> fewest_bytes((calm, lengths, (0, 3))), fewest_bytes((near, lengths, (0, 3)))[0], fewest_bytes((near, lengths, (0, 3)))[1] in ((0,), (2,)), fewest_bytes((near, lengths, (0, 4)))[0], fewest_bytes(((("label",),), (7, 7), ()))
+    ((12, (2,)), 8, True, 8, (14, ()))
+''',
 }
 
 

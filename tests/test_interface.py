@@ -37,6 +37,24 @@ FUNCTIONS = {
         "shrink_holds": ["program", "value"],
         "shrinking_ends": ["program"],
     },
+    "steadiness": {
+        "triples": ["skeleton"],
+        "steady_error": ["skeleton"],
+        "loose_program": ["skeleton"],
+        "loose_holds": ["skeleton", "value"],
+    },
+    "parting": {"parted": ["skeleton"], "parted_holds": ["skeleton", "value"]},
+    "tying": {
+        "tied_pairs": ["skeleton"],
+        "tight_program": ["skeleton"],
+        "tight_holds": ["skeleton", "value"],
+    },
+    "choosing": {
+        "serving": ["program"],
+        "least_choice": ["program"],
+        "least_holds": ["program", "value"],
+        "fewest_bytes": ["program"],
+    },
 }
 
 BOUNDS = {"MAX_ITEMS": 24, "MAX_JUMPS": 8, "MAX_SIZE": 999, "MAX_LENGTH": 1000000000, "MAX_EDITS": 40}

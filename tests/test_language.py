@@ -17,6 +17,16 @@ BUILTINS = """
 LIBRARY = ("heapq", "math", "itertools", "collections")
 
 
+BARRED = """
+    register mro elements open input law version_info with_traceback add_note attrgetter breakpoint builtins compile
+    copyright credits delattr dir eval exec exit gc globals help id importlib license locals methodcaller os quit vars sys
+    typing typing_extensions enum Enum IntEnum StrEnum Flag IntFlag Generic Protocol ABC ABCMeta namedtuple NamedTuple
+    TypedDict TYPE_CHECKING abstractmethod _cold _tuplegetter _outside _record _written_out _member_names
+""".split()
+BEGINNINGS = ("_wall", "_pe_", "_dcw_", "_enum_", "_cm_", "_twin_re_", "_lay_", "_law_", "_stub_", "_sre", "_WallAttr")
+METHODS = ("__init__", "__eq__")
+
+
 def files():
     """Return all that stands in the package but what Python itself keeps there."""
     return [path for path in sorted(PACKAGE.rglob("*")) if "__pycache__" not in path.parts]
@@ -24,6 +34,12 @@ def files():
 
 def trees():
     return [(path.name, ast.parse(path.read_text(encoding="utf-8"))) for path in files()]
+
+
+def names_in(node):
+    """Return the names that a node has or gives."""
+    fields = ("id", "arg", "attr", "name")
+    return [word for word in (getattr(node, field, None) for field in fields) if isinstance(word, str)]
 
 
 class LanguageTest(unittest.TestCase):
@@ -74,6 +90,39 @@ class LanguageTest(unittest.TestCase):
                     self.assertNotIn(node.name, taken, f"{name}:{node.lineno}")
                 if isinstance(node, ast.arg):
                     self.assertNotIn(node.arg, taken, f"{name}:{node.lineno}")
+
+    def test_names(self):
+        for name, tree in trees():
+            for node in ast.walk(tree):
+                for word in names_in(node):
+                    self.assertNotIn(word, BARRED, f"{name}:{node.lineno}")
+                    self.assertFalse(word.startswith(BEGINNINGS), f"{name}:{node.lineno}")
+                    if word.startswith("__"):
+                        self.assertIn(word, METHODS, f"{name}:{node.lineno}")
+
+    def test_no_name_of_an_import_again(self):
+        for name, tree in trees():
+            imported = [alias.name for node in tree.body if isinstance(node, ast.ImportFrom) for alias in node.names]
+            defined = [node.name for node in tree.body if isinstance(node, (ast.FunctionDef, ast.ClassDef))]
+            self.assertEqual(len(imported + defined), len({*imported, *defined}), name)
+            used = {node.id for node in ast.walk(tree) if isinstance(node, ast.Name) and isinstance(node.ctx, ast.Load)}
+            self.assertEqual(set(imported) - used, set(), name)
+            for node in ast.walk(tree):
+                if isinstance(node, ast.Name) and isinstance(node.ctx, ast.Store):
+                    self.assertNotIn(node.id, imported, f"{name}:{node.lineno}")
+                if isinstance(node, ast.arg):
+                    self.assertNotIn(node.arg, imported, f"{name}:{node.lineno}")
+
+    def test_what_may_stand_in_functions(self):
+        for name, tree in trees():
+            for node in ast.walk(tree):
+                # A class has __eq__, so any, all, min, max, sum and sorted take lists.
+                self.assertNotIsInstance(node, (ast.GeneratorExp, ast.Set, ast.SetComp, ast.Global, ast.AsyncFunctionDef), name)
+                if isinstance(node, ast.Constant) and isinstance(node.value, str):
+                    self.assertNotIn("%", node.value, name)
+                if isinstance(node, ast.FunctionDef):
+                    for decorator in node.decorator_list:
+                        self.assertIn(ast.unparse(decorator), ("property",), f"{name}:{node.lineno}")
 
     def test_no_floats(self):
         for name, tree in trees():
