@@ -11,7 +11,7 @@ from longernearer.skeletons import jumps_of
 def triples(skeleton):
     """Return the ascending tuple of all triples of skeleton."""
     return tuple([
-        (jump, fill, other) for jump, fill, other in open_triples(skeleton)
+        (jump, fill, other) for jump, fill, other in possible_triples(skeleton)
         if growth_of(skeleton, other) % skeleton[fill][1] != 0
     ])
 
@@ -48,7 +48,7 @@ def first_triple(skeleton):
     return triple
 
 
-def open_triples(skeleton):
+def possible_triples(skeleton):
     """Return the ascending list of all (jump, fill, other) that are triples if fill does not divide other's growth."""
     return [
         (jump, fill, other)

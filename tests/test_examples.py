@@ -150,6 +150,35 @@ EXAMPLES = {
     >>> tight_program((("jump", 3, 2, 5), ("jump", 3, 2, 4), ("fill", 4), ("label",)))
     raises Loose((1, 2, 0))
 ''',
+    "F3": r'''
+    >>> from longernearer.changing import change_lengths, changes, hangs_on, sure_part
+    >>> from longernearer.laying import way_of
+    >>> twins = (("jump", 3, 2, 5), ("jump", 3, 2, 5), ("fill", 2), ("label",))
+    >>> changes(twins, 1, 0), changes(twins, 0, 1)
+    ((2, 4), (-1, 1))
+    >>> apart = (("jump", 1, 2, 9), ("label",), ("fill", 2), ("jump", 5, 2, 3), ("fill", 8), ("label",))
+    >>> changes(apart, 0, 3), changes(apart, 3, 0)
+    ((-6, 0, 2), (0,))
+    >>> back, ahead = (("jump", 1, 2, 5), ("label",), ("fill", 4), ("jump", 1, 2, 4)), (("jump", 2, 2, 5), ("fill", 4), ("label",), ("jump", 2, 2, 4))
+    >>> changes(back, 0, 3), changes(ahead, 0, 3), changes((("jump", 1, 2, 9), ("label",), ("jump", 1, 2, 4)), 0, 2)
+    ((-3, 1), (0,), (0,))
+    >>> nearer, farther = change_lengths(twins, 0, 1, -1), change_lengths(apart, 0, 3, 2)
+    >>> way_of(twins, nearer, (0,), 1) - way_of(twins, nearer, (), 1), way_of(apart, farther, (0,), 3) - way_of(apart, farther, (), 3)
+    (-1, 2)
+    >>> way_of(twins, (0, 1, 0, 0, 0), (), 1), way_of(twins, (0, 1, 0, 0, 0), (0,), 1)
+    (1, 0)
+    >>> change_lengths(twins, 0, 1, 0)
+    raises Unfit()
+    >>> change_lengths(apart, 3, 0, False)
+    raises Unfit()
+''',
+    "F4": r'''
+    >>> hangs_on(twins, 0), hangs_on(twins, 1), hangs_on(apart, 0), hangs_on(apart, 3), hangs_on(ahead, 3)
+    ((1,), (0,), (), (0,), ())
+    >>> even = (("jump", 3, 2, 4), ("jump", 3, 2, 6), ("fill", 2), ("label",))
+    >>> sure_part(twins), sure_part(apart), sure_part(ahead), sure_part(even), hangs_on(even, 0), hangs_on(even, 1)
+    ((), (0,), (0, 3), (0, 1), (1,), ())
+''',
     "G2": r'''
     >>> from longernearer.choosing import fewest_bytes, least_choice, least_holds, serving
     >>> near = (("jump", 1, 2, 5), ("label",), ("jump", 4, 2, 5), ("fill", 4), ("label",))
@@ -174,6 +203,70 @@ EXAMPLES = {
     "G4": r'''
     >>> fewest_bytes((calm, lengths, (0, 3))), fewest_bytes((near, lengths, (0, 3)))[0], fewest_bytes((near, lengths, (0, 3)))[1] in ((0,), (2,)), fewest_bytes((near, lengths, (0, 4)))[0], fewest_bytes(((("label",),), (7, 7), ()))
     ((12, (2,)), 8, True, 8, (14, ()))
+''',
+    "H2": r'''
+    >>> from longernearer.lengthening import turning
+    >>> solo, pair = (("jump", 2, 2, 5), ("fill", 4), ("label",)), (("jump", 3, 2, 4), ("jump", 3, 2, 6), ("fill", 2), ("label",))
+    >>> short = (solo, (0, 0, 0, 0), (10,))
+    >>> [turning(short, place, 0) for place in range(4)], turning((solo, (0, 0, 0, 0), (1,)), 0, 0)
+    ([None, 3, 3, None], 0)
+    >>> both = (pair, (0, 0, 0, 0, 0), (13, 6))
+    >>> [turning(both, place, 0) for place in range(5)], [turning(both, place, 1) for place in range(5)]
+    ([None, 6, 4, 4, None], [None, None, 4, 4, None])
+    >>> turning((solo, (0, 0, 0, 0), (10 ** 9,)), 1, 0), turning((pair, (0, 0, 10 ** 9, 0, 0), (13, 10 ** 9)), 2, 1)
+    (250000000, 1)
+    >>> turning(((("label",), ("jump", 0, 2, 3)), (7, 0, 0), (5,)), 1, 1), turning(((("label",), ("jump", 0, 2, 3)), (7, 0, 0), (5,)), 0, 1)
+    (4, None)
+    >>> turning(((("jump", 3, 2, 5), ("jump", 3, 2, 5), ("fill", 2), ("label",)), (0, 0, 0, 0, 0), (9, 9)), 0, 0)
+    raises Loose((1, 2, 0))
+''',
+    "I1": r'''
+    >>> from longernearer.mending import book_loose, mended
+    >>> near = (("jump", 1, 2, 5), ("label",), ("jump", 4, 2, 5), ("fill", 4), ("label",))
+    >>> calm = (("jump", 1, 2, 6), ("label",), ("jump", 4, 2, 6), ("fill", 4), ("label",))
+    >>> mended(near), mended(calm), mended((("label",),))
+    ((6, 5), (6, 6), ())
+    >>> deep = (("jump", 1, 2, 5), ("label",), ("jump", 5, 2, 5), ("fill", 4), ("fill", 8), ("label",))
+    >>> turned = (("jump", 1, 2, 5), ("label",), ("jump", 5, 2, 5), ("fill", 8), ("fill", 4), ("label",))
+    >>> back, far = (("jump", 1, 2, 3), ("label",), ("fill", 16), ("jump", 1, 1, 4)), (("jump", 1, 2, 999), ("label",), ("fill", 64), ("jump", 1, 2, 3))
+    >>> mended(deep), mended(turned), mended(back), mended(far)
+    ((10, 5), (10, 5), (18, 4), (1026, 3))
+''',
+    "I3": r'''
+    >>> book_loose((4, 8), (2, 4)), book_loose((6,), (2,)), book_loose((64, 128), (2, 4, 8, 16, 32, 64)), book_loose((998,), (2,))
+    (None, None, None, None)
+    >>> from longernearer.steadiness import steady_error
+    >>> loose = book_loose((4, 6), (2, 4))
+    >>> steady_error(loose) is None, [item[3] - item[2] in (4, 6) for item in loose if item[0] == "jump"].count(False), [item[1] in (2, 4) for item in loose if item[0] == "fill"].count(False)
+    (False, 0, 0)
+    >>> steady_error(book_loose((997,), (64,))) is None, book_loose((1,), (2,)) is None
+    (False, False)
+''',
+    "J2": r'''
+    >>> from longernearer.desks import Desk, desk_behind
+    >>> turn = (("jump", 4, 1, 2), ("jump", 3, 1, 3), ("fill", 4), ("label",), ("label",))
+    >>> code = (turn, (0, 0, 1, 0, 0, 0), (9, 7))
+    >>> d = Desk(code)
+    >>> [d.version, d.lay(2, 1), d.size(0, 1, 5), d.fill(2, 8), d.program[0][:3], d.program[1:]]
+    [0, 1, 2, 3, (('jump', 4, 1, 5), ('jump', 3, 1, 3), ('fill', 8)), ((0, 0, 1, 0, 0, 0), (9, 7))]
+    >>> [d.least(), d.reach(1, 5), d.grown_in((0, 1)), d.undo(), d.at(0) == code, d.redo(), d.log]
+    [(), 4, (1,), 3, True, 4, (('lay', 2, 1), ('size', 0, 1, 5), ('fill', 2, 8), ('reach', 1, 5))]
+    >>> d.lay(6, 0)
+    raises Unfit()
+    >>> d.fill(3, 4)
+    raises Unfit()
+    >>> d.at(True)
+    raises NoVersion(True)
+    >>> d.redo()
+    raises NothingToRedo()
+''',
+    "J3": r'''
+    >>> desk_behind(code, d.log) == d, desk_behind(code, d.log).version, d.copy() == d, d == code
+    (True, 4, True, False)
+    >>> desk_behind(code, (("lay", 2, 1), ("lay", 2)))
+    raises BadLog(1)
+    >>> desk_behind(code, [])
+    raises BadLog(0)
 ''',
 }
 

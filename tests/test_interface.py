@@ -49,12 +49,34 @@ FUNCTIONS = {
         "tight_program": ["skeleton"],
         "tight_holds": ["skeleton", "value"],
     },
+    "changing": {
+        "changes": ["skeleton", "other", "jump"],
+        "change_lengths": ["skeleton", "other", "jump", "value"],
+        "hangs_on": ["skeleton", "jump"],
+        "sure_part": ["skeleton"],
+    },
     "choosing": {
         "serving": ["program"],
         "least_choice": ["program"],
         "least_holds": ["program", "value"],
         "fewest_bytes": ["program"],
     },
+    "lengthening": {"turning": ["program", "place", "jump"]},
+    "mending": {"mended": ["skeleton"], "book_loose": ["growths", "fills"]},
+    "desks": {"desk_behind": ["program", "log"]},
+}
+
+DESK = {
+    "lay": ["place", "value"],
+    "reach": ["jump", "value"],
+    "size": ["jump", "short", "long"],
+    "fill": ["place", "value"],
+    "undo": [],
+    "redo": [],
+    "at": ["value"],
+    "least": [],
+    "grown_in": ["order"],
+    "copy": [],
 }
 
 BOUNDS = {"MAX_ITEMS": 24, "MAX_JUMPS": 8, "MAX_SIZE": 999, "MAX_LENGTH": 1000000000, "MAX_EDITS": 40}
@@ -78,3 +100,20 @@ class InterfaceTest(unittest.TestCase):
             with self.subTest(name):
                 self.assertIs(type(getattr(bounds, name)), int)
                 self.assertEqual(getattr(bounds, name), number)
+
+    def test_desk_is_defined_in_its_file(self):
+        desks = importlib.import_module("longernearer.desks")
+        self.assertTrue(inspect.isclass(desks.Desk))
+        self.assertEqual(desks.Desk.__module__, desks.__name__)
+        self.assertEqual(list(inspect.signature(desks.Desk).parameters), ["program"])
+        self.assertIn("__eq__", vars(desks.Desk))
+        for name in ("program", "version", "log"):
+            self.assertIsInstance(vars(desks.Desk)[name], property)
+
+    def test_methods_of_desk_stand_in_the_class_itself(self):
+        desks = importlib.import_module("longernearer.desks")
+        for name, parameters in DESK.items():
+            with self.subTest(name):
+                method = vars(desks.Desk)[name]
+                self.assertTrue(inspect.isfunction(method))
+                self.assertEqual(list(inspect.signature(method).parameters), ["self", *parameters])
